@@ -1,0 +1,1 @@
+"""What is about to happen in a duel, replaced and prevented."""
