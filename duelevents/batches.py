@@ -59,6 +59,12 @@ def offered_effect(table, number):
     return None
 
 
+def events_left(table):
+    if table.batch is None:
+        return []
+    return table.batch.row + table.batch.settled
+
+
 def choose(table, effect):
     use(table, effect)
     go_on(table)
@@ -88,7 +94,7 @@ def finish(table):
         if is_side(event.target):
             happen_to_side(table.sides[event.target], event)
         else:
-            happen_to_thing(table.things[thing_of(event.target) - 1], event)
+            happen_to_thing(table.thing_numbered(thing_of(event.target)), event)
     table.effects = [effect for effect in table.effects if table.on_field(effect.source)]
     table.batch = None
 

@@ -28,6 +28,9 @@ class Effect:
         traits = [self.side, self.source, self.kind, self.aim, self.whose, self.own, self.may, self.uses]
         return Effect(self.number, traits, self.things, self.sources, self.does)
 
+    def as_row(self):
+        return [self.number, self.side, self.source, self.kind, self.uses] + self.does[:2]
+
 
 def fits(effect, event, befallen):
     return (

@@ -12,5 +12,8 @@ class Event:
         self.place = place
         self.used = used
 
+    def as_row(self):
+        return [self.kind, self.source, self.target, self.amount, self.place]
+
     def mark(self, number):
         self.used = [number] + self.used

@@ -104,6 +104,13 @@ FORMS = (
     has_two_numbers,
     has_no_number,
     has_no_number,
+    has_no_number,
+    has_one_number,
+    has_one_number,
+    has_no_number,
+    has_one_number,
+    has_no_number,
+    has_two_numbers,
 )
 
 

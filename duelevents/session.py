@@ -1,12 +1,13 @@
 """The calls of a session: each is asked of a table and answers a list of numbers."""
 
-from duelevents.batches import asked_side, begin, choose, choose_to_the_end, decline, offered_effect, take_back
+from duelevents.batches import asked_side, begin, choose, choose_to_the_end, decline, events_left, offered_effect
+from duelevents.batches import take_back
 from duelevents.effects import Effect
 from duelevents.events import Event
 from duelevents.forms import is_of_its_form
 from duelevents.tables import Thing
-from duelevents.words import BESIDES, ELSEWHERE, INSTEAD, MOST_THINGS, MOVE, NOTHING, SHIELD, SPLIT, TURN
-from duelevents.words import suits
+from duelevents.words import BESIDES, ELSEWHERE, INSTEAD, LAST_KIND, MOST_THINGS, MOVE, NOTHING, SHIELD, SPLIT, TURN
+from duelevents.words import is_side, suits
 
 NOT_OF_ITS_FORM = -1
 SOMEBODY_IS_ASKED = -2
@@ -26,7 +27,11 @@ MOST_EVENTS = 4
 def how_it_stands(table):
     if table.batch is None:
         return [0, 0]
-    return [0, 1, asked_side(table)] + [effect.number for effect in table.batch.offered]
+    return [0, 1, asked_side(table)] + offered_numbers(table)
+
+
+def offered_numbers(table):
+    return [effect.number for effect in table.batch.offered]
 
 
 def answer_thing(table, arguments, rows):
@@ -150,6 +155,57 @@ def answer_undo(table, arguments, rows):
     return [0]
 
 
+def answer_ask(table, arguments, rows):
+    if table.batch is None:
+        return [0, 0]
+    numbers = offered_numbers(table)
+    event = table.batch.row[0]
+    return [0, 1, asked_side(table), len(numbers)] + numbers + event.as_row() + event.used
+
+
+def answer_side(table, arguments, rows):
+    if not is_side(arguments[0]):
+        return [NOT_THERE_OR_UNSUITED]
+    return [0] + table.sides[arguments[0]].as_row()
+
+
+def answer_look(table, arguments, rows):
+    if not table.has_thing(arguments[0]):
+        return [NOT_THERE_OR_UNSUITED]
+    return [0] + table.thing_numbered(arguments[0]).as_row()
+
+
+def answer_effects(table, arguments, rows):
+    return one_behind_another(table.effects)
+
+
+def answer_book(table, arguments, rows):
+    if not 0 <= arguments[0] <= LAST_KIND:
+        return [NOT_THERE_OR_UNSUITED]
+    return [0] + table.books[arguments[0]].as_row()
+
+
+def answer_left(table, arguments, rows):
+    return one_behind_another(events_left(table))
+
+
+def one_behind_another(shown):
+    answer = [0]
+    for each in shown:
+        answer.extend(each.as_row())
+    return answer
+
+
+def answer_own(table, arguments, rows):
+    if table.batch is not None:
+        return [SOMEBODY_IS_ASKED]
+    if not table.has_thing(arguments[0]) or not is_side(arguments[1]):
+        return [NOT_THERE_OR_UNSUITED]
+    thing = table.thing_numbered(arguments[0])
+    thing.side = arguments[1]
+    return [0]
+
+
 ANSWERERS = (
     answer_thing,
     answer_effect,
@@ -159,6 +215,13 @@ ANSWERERS = (
     answer_decline,
     answer_rest,
     answer_undo,
+    answer_ask,
+    answer_side,
+    answer_look,
+    answer_effects,
+    answer_book,
+    answer_left,
+    answer_own,
 )
 
 

@@ -12,6 +12,9 @@ class Side:
         self.drawn = 0
         self.tokens = 0
 
+    def as_row(self):
+        return [self.life, self.drawn, self.tokens]
+
 
 class Thing:
 
@@ -20,6 +23,9 @@ class Thing:
         self.place = place
         self.damage = 0
         self.counters = 0
+
+    def as_row(self):
+        return [self.side, self.place, self.damage, self.counters]
 
 
 class Book:
@@ -41,6 +47,9 @@ class Book:
         twin.turned = self.turned
         twin.happened = self.happened
         return twin
+
+    def as_row(self):
+        return [self.told, self.made, self.added, self.cut, self.turned, self.happened]
 
 
 class Table:
@@ -64,12 +73,15 @@ class Table:
 
     # An effect without a source can't lose it, so none counts as one on the field.
     def on_field(self, source):
-        return source == 0 or self.things[source - 1].place == FIELD
+        return source == 0 or self.thing_numbered(source).place == FIELD
 
     def befallen_side(self, target):
         if is_side(target):
             return target
-        return self.things[thing_of(target) - 1].side
+        return self.thing_numbered(thing_of(target)).side
+
+    def thing_numbered(self, number):
+        return self.things[number - 1]
 
     def effect_numbered(self, number):
         for effect in self.effects:

@@ -1,4 +1,4 @@
-"""Calls written short, their answers taken apart, and a look at what the calls 0 to 7 don't show."""
+"""Calls written short, their answers taken apart, and a look at a session between two calls."""
 
 from duelevents.desk import answers
 from duelevents.session import answer_call
@@ -76,6 +76,29 @@ def decline(side, e):
 
 REST = call(6)
 UNDO = call(7)
+ASK = call(8)
+
+
+def show_side(p):
+    return call(9, [p])
+
+
+def look(t):
+    return call(10, [t])
+
+
+EFFECTS = call(11)
+
+
+def book(k):
+    return call(12, [k])
+
+
+LEFT = call(13)
+
+
+def own(t, side):
+    return call(14, [t, side])
 
 
 def event(kind=DAMAGE, target=0, amount=5, source=0, place=FIELD):
@@ -115,39 +138,46 @@ def last(*calls):
     return ask(*calls)[-1]
 
 
+def by(size, numbers):
+    """A row of numbers cut into rows of one size."""
+    return [numbers[start:start + size] for start in range(0, len(numbers), size)]
+
+
+def told(table, one):
+    return answer_call(table, one[0], one[1], one[2])
+
+
 def play(*calls):
     """The table as it is after these calls, none of which may be refused."""
     table = Table()
-    for number, arguments, rows in calls:
-        answer = answer_call(table, number, arguments, rows)
+    for one in calls:
+        answer = told(table, one)
         if answer[0] != 0:
-            raise AssertionError(f"the call {number} {arguments} {rows} is answered {answer}")
+            raise AssertionError(f"the call {one} is answered {answer}")
     return table
-
-
-def row_of(event_object):
-    return [event_object.kind, event_object.source, event_object.target, event_object.amount, event_object.place]
 
 
 def left(table):
     """The events still to be looked at, then the settled ones that haven't happened."""
-    if table.batch is None:
-        return []
-    return [row_of(one) for one in table.batch.row + table.batch.settled]
+    return by(5, told(table, LEFT)[1:])
 
 
 def side_of(table, side):
-    return [table.sides[side].life, table.sides[side].drawn, table.sides[side].tokens]
+    return told(table, show_side(side))[1:]
 
 
 def thing_of(table, number):
-    one = table.things[number - 1]
-    return [one.side, one.place, one.damage, one.counters]
+    return told(table, look(number))[1:]
 
 
 def book_of(table, kind):
-    book = table.books[kind]
-    return [book.told, book.made, book.added, book.cut, book.turned, book.happened]
+    return told(table, book(kind))[1:]
+
+
+def all_shown(things):
+    """The calls that show all there is to see, where there are so many things."""
+    looks = [look(number) for number in range(1, things + 1)]
+    return [ASK, show_side(0), show_side(1), EFFECTS, LEFT] + looks + [book(kind) for kind in KINDS]
 
 
 def effects_of(table):

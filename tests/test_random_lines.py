@@ -2,11 +2,10 @@ import copy
 import random
 import unittest
 
-from duelevents.session import answer_call
 from duelevents.tables import Table
-from tests.helper import COUNTERS, DAMAGE, HALF, KINDS, MOVE, NOTHING, REST, TWICE, UNDO
-from tests.helper import ask, batch, besides, book_of, choose, decline, effect, elsewhere, event, instead, left, less, more, move
-from tests.helper import shield, shown, split, stop, thing, turn
+from tests.helper import ASK, COUNTERS, DAMAGE, HALF, KINDS, LEFT, MOVE, NOTHING, REST, TWICE, UNDO
+from tests.helper import all_shown, ask, batch, besides, book, by, choose, decline, effect, elsewhere, event, instead, less, more
+from tests.helper import move, own, play, shield, shown, split, stop, thing, told, turn
 
 
 class RandomLines:
@@ -60,16 +59,28 @@ class RandomLines:
     def calls(self, length):
         calls = [thing(0), thing(1), thing(0)]
         for turn_number in range(length):
-            calls.append(self.pick(self.effect(), self.effect(), self.batch(), stop(self.random.randint(1, 12)), REST))
+            calls.append(self.pick(self.single(), self.single(), self.single(), self.single(), REST))
+        return calls
+
+    def single(self):
+        rare = self.pick(stop(self.random.randint(1, 12)), own(self.pick(1, 2, 3), self.pick(0, 1)))
+        return self.pick(self.effect(), self.effect(), self.batch(), rare)
+
+    def line(self, length):
+        """Calls one behind another, where most of what is asked is answered by a choice."""
+        calls = [thing(0), thing(1), thing(0)]
+        table = play(*calls)
+        for turn_number in range(length):
+            asked = table.batch is not None
+            calls.append(self.pick(*[self.choice(stands(table))] * 12, UNDO, REST, self.single()) if asked else self.single())
+            told(table, calls[-1])
         return calls
 
 
-def told(table, one):
-    return answer_call(table, one[0], one[1], one[2])
-
-
 def stands(table):
-    return [0, 1, table.befallen_side(table.batch.row[0].target)] + [one.number for one in table.batch.offered]
+    """Who is asked, and what is offered, as the call ask tells it."""
+    answer = told(table, ASK)
+    return answer[:3] + answer[4:4 + answer[3]]
 
 
 class WhateverWasChosen(unittest.TestCase):
@@ -107,33 +118,88 @@ class WhateverWasChosen(unittest.TestCase):
             self.assertEqual([given[position] for position in kept], ask(*calls), seed)
         self.assertGreater(taken_back, 1000)
 
+    def test_all_that_can_be_seen_is_as_before(self):
+        shows = all_shown(3)
+        taken_back = 0
+        for seed in range(700, 900):
+            lines = RandomLines(seed)
+            before = lines.line(40)
+            table = Table()
+            for one in before:
+                told(table, one)
+            if table.batch is not None:
+                before.append(UNDO)
+                told(table, UNDO)
+            for turn_number in range(5):
+                calls = self.taken_back(lines, table)
+                taken_back += len(calls) > 0
+                given = ask(*before, *shows, *calls, *shows)
+                first = len(before)
+                self.assertEqual(given[-len(shows):], given[first:first + len(shows)], seed)
+        self.assertGreater(taken_back, 200)
+
+
+BOOKS_AND_LEFT = [book(kind) for kind in KINDS] + [LEFT]
+
 
 class AtAnyTime(unittest.TestCase):
 
-    def assert_books_agree(self, table):
+    def assert_books_agree(self, answers, where):
+        """By what the six books and left answer."""
+        rows = by(5, answers[6][1:])
         for kind in KINDS:
-            book = book_of(table, kind)
-            amounts = [one[3] for one in left(table) if one[0] == kind]
-            self.assertEqual(sum(book[:3]), sum(book[3:]) + sum(amounts))
+            numbers = answers[kind][1:]
+            amounts = [row[3] for row in rows if row[0] == kind]
+            self.assertEqual(sum(numbers[:3]), sum(numbers[3:]) + sum(amounts), where)
+            self.assertGreaterEqual(min(numbers), 0, where)
 
-    def test_nothing_is_lost_and_every_choice_offered_is_taken(self):
-        asked = 0
+    def test_nothing_is_lost(self):
+        while_asked = 0
         for seed in range(200, 400):
+            calls = RandomLines(seed).line(45)
+            given = ask(*[each for one in calls for each in [one] + BOOKS_AND_LEFT])
+            for position, answers in enumerate(by(8, given)):
+                self.assert_books_agree(answers[1:], (seed, position))
+                while_asked += len(answers[7]) > 1
+        self.assertGreater(while_asked, 1000)
+
+    def test_nothing_is_lost_over_four_hundred_calls(self):
+        for seed in range(900, 920):
+            table = Table()
+            for position, one in enumerate(RandomLines(seed).line(397)):
+                told(table, one)
+                self.assert_books_agree([told(table, shows) for shows in BOOKS_AND_LEFT], (seed, position))
+
+    def test_left_is_empty_where_nobody_is_asked_and_else_begins_with_the_event_asked_about(self):
+        for seed in range(400, 450):
+            calls = RandomLines(seed).line(100)
+            given = ask(*[each for one in calls for each in (one, ASK, LEFT)])
+            for answer, asked, left in by(3, given):
+                if asked == [0, 0]:
+                    self.assertEqual(left, [0])
+                else:
+                    start = 4 + asked[3]
+                    self.assertEqual(left[1:6], asked[start:start + 5])
+                    self.assertGreater(left[4], 0)
+
+    def test_every_choice_offered_is_taken_and_rest_comes_to_an_end(self):
+        asked = 0
+        for seed in range(500, 700):
             lines = RandomLines(seed)
             table = Table()
             for one in lines.calls(60):
                 told(table, one)
-                self.assert_books_agree(table)
                 while table.batch is not None and lines.pick(True, False):
                     asked += 1
-                    self.assertGreater(len(table.batch.offered), 0)
-                    for offered in table.batch.offered:
-                        tried = told(copy.deepcopy(table), choose(stands(table)[2], offered.number))
-                        self.assertEqual(tried[0], 0)
+                    offered = stands(table)[3:]
+                    self.assertGreater(len(offered), 0)
+                    for number in offered:
+                        self.assertEqual(told(copy.deepcopy(table), choose(stands(table)[2], number))[0], 0)
+                    self.assertEqual(told(copy.deepcopy(table), REST), [0, 0])
                     told(table, lines.choice(stands(table)))
-                    self.assert_books_agree(table)
             if table.batch is not None:
                 self.assertEqual(told(table, REST), [0, 0])
+                self.assertEqual(told(table, ASK), [0, 0])
         self.assertGreater(asked, 1000)
 
 

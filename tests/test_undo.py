@@ -1,8 +1,8 @@
 import unittest
 
-from tests.helper import DRAW, GAIN, HALF, KINDS, NOTHING, REST, TOKENS, TWICE, UNDO
-from tests.helper import ask, batch, besides, book_of, choose, decline, effect, effects_of, event, instead
-from tests.helper import last, less, play, shield, shown, stop, thing
+from tests.helper import COUNTERS, DRAW, GAIN, HALF, HAND, KINDS, MOVE, NOTHING, REST, TOKENS, TWICE, UNDO, VOID
+from tests.helper import all_shown, ask, batch, besides, book_of, choose, decline, effect, effects_of, elsewhere, event, instead
+from tests.helper import last, less, more, move, own, play, shield, shown, split, stop, thing, turn
 
 
 class UndoCall(unittest.TestCase):
@@ -56,6 +56,34 @@ class AsBefore(unittest.TestCase):
         table = play(*before, batch(event(), event(DRAW)), choose(0, 1), choose(0, 2), choose(0, 3), UNDO)
         for kind in KINDS:
             self.assertEqual(book_of(table, kind), book_of(play(*before), kind), kind)
+
+    def assert_as_before(self, before, *batch_and_choices):
+        """By the interface alone: all that can be seen is the same ahead of the batch and behind the undo."""
+        shows = all_shown(3)
+        given = ask(*before, *shows, *batch_and_choices, UNDO, *shows)
+        self.assertEqual([answer[0] for answer in given if answer[0] != 0], [])
+        first = len(before)
+        self.assertEqual(given[-len(shows):], given[first:first + len(shows)])
+        self.assertNotEqual(ask(*before, *batch_and_choices, *shows)[-len(shows):], given[-len(shows):])
+
+    def test_all_that_the_calls_show(self):
+        halt = effect(HALF, kind=DRAW, may=1)
+        told = batch(event(amount=9), event(DRAW, 1))
+        for does in (less(2), more(2), TWICE, HALF, NOTHING, shield(4), shield(40), turn(1), split(13), instead(GAIN, 0), besides(TOKENS, 1, 3)):
+            for uses in (0, 1, 2):
+                before = (thing(0), thing(1), thing(0), batch(event(COUNTERS, 11, 3), event(), event(target=12)), own(3, 1))
+                self.assert_as_before((*before, effect(does, uses=uses), halt), told)
+                self.assert_as_before((*before, effect(does, uses=uses, may=1), halt), told, choose(0, 1))
+                self.assert_as_before((*before, effect(does, uses=uses, may=1), halt), told, decline(0, 1))
+
+    def test_moves_settled_but_not_happened(self):
+        before = (thing(0), thing(1), thing(0), batch(event(target=11, amount=4)), effect(TWICE, source=1, uses=3))
+        before += (effect(elsewhere(HAND), kind=MOVE, uses=1), effect(more(1), source=2, may=1))
+        told = batch(move(11, VOID), move(12, VOID), event(amount=8), event())
+        self.assert_as_before(before, told)
+        self.assert_as_before(before, told, choose(0, 1))
+        self.assert_as_before(before, told, choose(0, 1), choose(0, 3), choose(0, 1))
+        self.assert_as_before(before, told, decline(0, 3), choose(0, 1))
 
     def test_twice_in_a_row(self):
         before = (effect(shield(5)), effect(TWICE, may=1, uses=1), effect(HALF, may=1))
